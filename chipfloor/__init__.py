@@ -1,0 +1,1 @@
+"""Chipfloor: floors, channels and wires of chips, exactly."""

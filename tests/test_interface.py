@@ -1,0 +1,69 @@
+"""The interface: names, arguments, the files that define them, and the examples that it prints."""
+
+import doctest
+import importlib
+import inspect
+import os
+import unittest
+
+FUNCTIONS = {
+    "chipfloor.slices": {
+        "is_normal": ["word"],
+        "normal": ["word"],
+        "all_words": ["many"],
+        "moves": ["word"],
+        "moved": ["word", "move"],
+        "road": ["one", "other"],
+    },
+    "chipfloor.shapes": {
+        "curve_of": ["sizes"],
+        "curve": ["blocks", "word"],
+        "best": ["blocks", "word"],
+        "size_of": ["blocks", "word", "choice"],
+        "placed": ["blocks", "word", "choice"],
+        "best_word": ["blocks"],
+    },
+}
+
+EXAMPLES = """
+>>> from chipfloor.slices import moves, normal
+>>> [normal((0, 1, 2, "H", "H")), moves((0, 1, "H"))]
+[(0, 1, 'H', 2, 'H'), [('swap', 0), ('turn', 2)]]
+
+>>> from chipfloor.shapes import curve, placed
+>>> blocks = (((2, 1), (1, 2)), ((2, 1), (1, 2)))
+>>> [curve(blocks, (0, 1, "V")), placed(blocks, (0, 1, "H"), (0, 1))]
+[((2, 2), (4, 1)), ((0, 0, 2, 1), (0, 1, 1, 2))]
+"""
+
+
+class Interface(unittest.TestCase):
+    def test_functions_and_arguments(self):
+        for file, functions in FUNCTIONS.items():
+            module = importlib.import_module(file)
+            for name, arguments in functions.items():
+                with self.subTest(f"{file}.{name}"):
+                    function = getattr(module, name)
+                    self.assertTrue(inspect.isfunction(function))
+                    self.assertEqual(function.__module__, file)
+                    self.assertEqual(list(inspect.signature(function).parameters), arguments)
+
+    def run_examples(self, text, name):
+        runner = doctest.DocTestRunner(verbose=False)
+        test = doctest.DocTestParser().get_doctest(text, {}, name, name, 0)
+        self.assertTrue(test.examples)
+        self.assertEqual(runner.run(test).failed, 0)
+
+    def test_examples_of_the_interface(self):
+        self.run_examples(EXAMPLES, "interface")
+
+    def test_examples_of_the_readme(self):
+        path = os.path.join(os.path.dirname(os.path.dirname(os.path.abspath(__file__))), "README.md")
+        with open(path, encoding="utf-8") as file:
+            text = file.read()
+        # The fences of Markdown would else be read as a part of what is printed.
+        self.run_examples(text.replace("```", ""), "README.md")
+
+
+if __name__ == "__main__":
+    unittest.main()
