@@ -23,6 +23,43 @@ FUNCTIONS = {
         "placed": ["blocks", "word", "choice"],
         "best_word": ["blocks"],
     },
+    "chipfloor.packings": {
+        "is_packing": ["value"],
+        "bounds": ["spots"],
+        "packed": ["sizes", "first", "second"],
+        "critical": ["sizes", "first", "second"],
+        "orders_of": ["spots"],
+        "best_packing": ["sizes"],
+        "pattern": ["first", "second"],
+        "slicing_of": ["first", "second"],
+    },
+    "chipfloor.bushes": {
+        "packed_bush": ["sizes", "bush"],
+        "is_compact": ["spots"],
+        "bush_of": ["spots"],
+        "best_bush": ["sizes"],
+    },
+    "chipfloor.channels": {
+        "spans": ["top", "bottom"],
+        "density": ["top", "bottom"],
+        "above": ["top", "bottom"],
+        "depth": ["top", "bottom"],
+        "is_routing": ["top", "bottom", "tracks"],
+        "left_edge": ["top", "bottom"],
+        "least_routing": ["top", "bottom"],
+        "wire_length": ["top", "bottom", "tracks"],
+        "ring": ["top", "bottom"],
+        "pieces": ["top", "bottom"],
+        "is_bent_routing": ["top", "bottom", "tracks"],
+        "least_bent_routing": ["top", "bottom"],
+    },
+    "chipfloor.rivers": {
+        "river_height": ["lows", "highs"],
+        "wires": ["lows", "highs"],
+        "is_river": ["lows", "highs", "height", "value"],
+        "shifts": ["lows", "highs", "height"],
+        "best_shift": ["lows", "highs"],
+    },
 }
 
 EXAMPLES = """
@@ -34,6 +71,11 @@ EXAMPLES = """
 >>> blocks = (((2, 1), (1, 2)), ((2, 1), (1, 2)))
 >>> [curve(blocks, (0, 1, "V")), placed(blocks, (0, 1, "H"), (0, 1))]
 [((2, 2), (4, 1)), ((0, 0, 2, 1), (0, 1, 1, 2))]
+
+>>> from chipfloor.packings import best_packing, packed, pattern
+>>> sizes = ((3, 2), (2, 3), (3, 2), (2, 3))
+>>> [packed(((2, 1), (1, 3)), (0, 1), (0, 1)), best_packing(sizes)[0], pattern((0, 1, 2, 3), (1, 3, 0, 2))]
+[((0, 0, 2, 1), (2, 0, 1, 3)), 25, (0, 1, 2, 3)]
 """
 
 

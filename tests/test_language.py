@@ -1,6 +1,7 @@
 """Some rules for the files of the package that can be counted: sizes, characters, imports, names."""
 
 import ast
+import builtins
 import os
 import re
 import unittest
@@ -88,6 +89,33 @@ class Language(unittest.TestCase):
                     known.add(part.id)
             read = {part.id for part in ast.walk(tree) if isinstance(part, ast.Name)}
             self.assertLessEqual(read, known, path)
+
+    def test_no_local_name_hides_an_import_or_a_builtin(self):
+        for path in files():
+            tree = parsed(path)[1]
+            imported = {alias.name for part in tree.body if isinstance(part, ast.ImportFrom) for alias in part.names}
+            for part in ast.walk(tree):
+                name = None
+                if isinstance(part, ast.arg):
+                    name = part.arg
+                elif isinstance(part, (ast.FunctionDef, ast.ClassDef)):
+                    name = part.name
+                elif isinstance(part, ast.Name) and isinstance(part.ctx, ast.Store):
+                    name = part.id
+                self.assertNotIn(name, imported, path)
+                # A session at the prompt, and doctest, add the builtin _.
+                self.assertNotIn(name, set(dir(builtins)) - {"_"}, path)
+
+    def test_imports_make_no_ring(self):
+        needs = {}
+        for path in files():
+            name = os.path.basename(path)[:-3]
+            needs[name] = {part.module.split(".")[1] for part in parsed(path)[1].body
+                           if isinstance(part, ast.ImportFrom) and part.module not in LIBRARY}
+        while needs:
+            free = [name for name, others in needs.items() if not others & set(needs)]
+            self.assertTrue(free, needs)
+            needs = {name: others for name, others in needs.items() if name not in free}
 
     def test_no_floats_and_no_division(self):
         for path in files():
