@@ -60,6 +60,35 @@ FUNCTIONS = {
         "shifts": ["lows", "highs", "height"],
         "best_shift": ["lows", "highs"],
     },
+    "chipfloor.trees": {
+        "half_box": ["pins"],
+        "spanning": ["pins"],
+        "trunk": ["pins"],
+        "least_tree": ["pins"],
+        "length_of": ["sides"],
+        "does_join": ["pins", "sides"],
+        "is_tree": ["pins", "sides"],
+    },
+    "chipfloor.clocks": {
+        "least_wire": ["ends", "topology"],
+        "placed": ["ends", "topology"],
+        "best_topology": ["ends"],
+    },
+    "chipfloor.cuts": {
+        "cut": ["many", "nets", "side"],
+        "gains": ["many", "nets", "side"],
+        "least_cut": ["many", "nets", "low"],
+        "better": ["many", "nets", "side"],
+        "best_by_passes": ["many", "nets", "side"],
+    },
+    "chipfloor.rows": {
+        "wire_length": ["many", "nets", "order"],
+        "crossings": ["many", "nets", "order"],
+        "least_length": ["many", "nets"],
+        "least_width": ["many", "nets"],
+        "legal": ["cells", "room"],
+        "cost": ["cells", "places"],
+    },
 }
 
 EXAMPLES = """
@@ -76,6 +105,16 @@ EXAMPLES = """
 >>> sizes = ((3, 2), (2, 3), (3, 2), (2, 3))
 >>> [packed(((2, 1), (1, 3)), (0, 1), (0, 1)), best_packing(sizes)[0], pattern((0, 1, 2, 3), (1, 3, 0, 2))]
 [((0, 0, 2, 1), (2, 0, 1, 3)), 25, (0, 1, 2, 3)]
+
+>>> from chipfloor.clocks import least_wire
+>>> from chipfloor.trees import least_tree, spanning
+>>> pins = ((0, 1), (2, 1), (1, 0), (1, 2))
+>>> [least_wire(((0, 0), (3, 0)), (0, 1)), least_tree(pins)[0], spanning(pins)[0]]
+[((3, 1), (3, 2)), 4, 6]
+
+>>> from chipfloor.rows import least_width, legal
+>>> [legal(((3, 4, 1), (4, 4, 1)), 20), least_width(3, ((0, 1), (0, 2)))[0]]
+[((3, 2), (11, 2)), 1]
 """
 
 
