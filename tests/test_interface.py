@@ -89,6 +89,36 @@ FUNCTIONS = {
         "legal": ["cells", "room"],
         "cost": ["cells", "places"],
     },
+    "chipfloor.masks": {
+        "nets": ["mask"],
+        "gates": ["mask"],
+        "area": ["mask", "layer"],
+        "rim": ["mask", "layer"],
+        "too_near": ["mask", "layer", "least"],
+        "too_narrow": ["mask", "layer", "least"],
+        "bare_cuts": ["mask", "layer", "margin"],
+    },
+    "chipfloor.netlists": {
+        "same": ["one", "other"],
+        "colors": ["devices"],
+        "signature": ["devices"],
+        "run": ["devices", "known"],
+        "drivers": ["devices"],
+    },
+    "chipfloor.gaps": {
+        "obeys": ["many", "rules", "places"],
+        "leftmost": ["many", "rules"],
+        "rightmost": ["many", "rules", "room"],
+        "slacks": ["many", "rules", "room"],
+        "tight_row": ["many", "rules"],
+        "bad_ring": ["many", "rules"],
+    },
+    "chipfloor.covers": {
+        "least_area": ["gates", "library"],
+        "least_cover": ["gates", "library"],
+        "table": ["gates"],
+        "count_gates": ["gates"],
+    },
 }
 
 EXAMPLES = """
@@ -115,6 +145,12 @@ EXAMPLES = """
 >>> from chipfloor.rows import least_width, legal
 >>> [legal(((3, 4, 1), (4, 4, 1)), 20), least_width(3, ((0, 1), (0, 2)))[0]]
 [((3, 2), (11, 2)), 1]
+
+>>> from chipfloor.covers import least_area, least_cover, table
+>>> library = ((1, ("not", None)), (2, ("nand", None, None)), (2, ("not", ("nand", None, None))))
+>>> tree = ("not", ("nand", 0, 1))
+>>> [least_area(tree, library), least_cover(("not", ("nand", 0, 0)), library), table(("nand", 0, 3))]
+[2, (2, (0, 0)), ((0, 3), (1, 1, 1, 0))]
 """
 
 
