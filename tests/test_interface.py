@@ -119,6 +119,33 @@ FUNCTIONS = {
         "table": ["gates"],
         "count_gates": ["gates"],
     },
+    "chipfloor.buffers": {
+        "slack_of": ["wires", "driver", "buffer", "spots"],
+        "delay_to": ["wires", "driver", "node"],
+        "best_buffers": ["wires", "driver", "buffer"],
+    },
+    "chipfloor.retimings": {
+        "period": ["delays", "wires"],
+        "retimed": ["delays", "wires", "lags"],
+        "lags_for": ["delays", "wires", "goal"],
+        "least_period": ["delays", "wires"],
+        "ring_bound": ["delays", "wires"],
+    },
+    "chipfloor.mazes": {
+        "shortest": ["maze", "one", "other"],
+        "fewest_bends": ["maze", "one", "other"],
+        "two_layers": ["maze", "over", "one", "other", "via"],
+        "routed": ["maze", "pairs"],
+    },
+    "chipfloor.labs": {
+        "replayed": ["text"],
+    },
+}
+
+METHODS = {
+    "run": ["self", "line"],
+    "undo": ["self"],
+    "redo": ["self"],
 }
 
 EXAMPLES = """
@@ -164,6 +191,18 @@ class Interface(unittest.TestCase):
                     self.assertTrue(inspect.isfunction(function))
                     self.assertEqual(function.__module__, file)
                     self.assertEqual(list(inspect.signature(function).parameters), arguments)
+
+    def test_class_lab(self):
+        module = importlib.import_module("chipfloor.labs")
+        self.assertTrue(inspect.isclass(module.Lab))
+        self.assertEqual(module.Lab.__module__, "chipfloor.labs")
+        self.assertEqual(list(inspect.signature(module.Lab).parameters), [])
+        for name, arguments in METHODS.items():
+            method = vars(module.Lab)[name]
+            self.assertTrue(inspect.isfunction(method))
+            self.assertEqual(list(inspect.signature(method).parameters), arguments)
+        for name in ("mask", "steps"):
+            self.assertIsInstance(vars(module.Lab)[name], property)
 
     def run_examples(self, text, name):
         runner = doctest.DocTestRunner(verbose=False)
