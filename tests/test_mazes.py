@@ -61,7 +61,7 @@ class Mazes(FloorCase):
 
     def test_no_pairs(self):
         pair = ((0, 0), (1, 2))
-        for value in judge.ODD_VALUES + ((pair,) * 13, (pair + pair,), (pair[:1],), [pair], ([(0, 0), (1, 2)],), pair,
+        for value in judge.ODD_VALUES + ((pair,) * 13, (pair + pair,), (pair + pair[:1],), (pair[:1],), [pair], ([(0, 0), (1, 2)],), pair,
                                          (pair, None), {pair: 1}, (pair, ((0, 0), (2, 2)))):
             if value != ():
                 self.check_error(BadPlace, None, routed, FREE, value)

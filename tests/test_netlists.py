@@ -99,6 +99,14 @@ class Same(FloorCase):
         self.check_same(three + triples((3, 4), (4, 5), (5, 3)),
                         triples((12, 1), (3, 5), (1, 7), (5, 9), (7, 12), (9, 3)))
 
+    def test_each_device_is_for_one_alone(self):
+        # All nets but the output are inputs twice: of two devices that are alike, or of two that are not.
+        twins = triples((12, 0, 1), (12, 1, 0), (12, 2, 3), (12, 3, 2))
+        ring = triples((12, 0, 1), (12, 1, 2), (12, 2, 3), (12, 3, 0))
+        self.assertIsNone(same(twins, ring))
+        self.assertIsNone(same(ring, twins))
+        self.check_same(twins, triples((5, 7, 8), (5, 9, 6), (5, 7, 8), (5, 9, 6)))
+
     def test_unlike_meshes_of_like_nets(self):
         # Devices are corners, nets the edges between two: of a cube, and of one with two edges crossed.
         cube = ((0, 3, 8), (0, 1, 9), (1, 2, 10), (2, 3, 11), (4, 7, 8), (4, 5, 9), (5, 6, 10), (6, 7, 11))
@@ -174,6 +182,17 @@ class Colors(FloorCase):
         self.assertNotEqual(many[0], many[1])
         self.assertEqual(len(set(self.check_colors(
             (("and", 0, (1, 1, 2)), ("or", 3, (4, 4, 4)), ("or", 3, (0, 3, 3)))).values())), 5)
+
+    def test_all_counts(self):
+        # Net 0 drives so many devices, net 1 is an input so many times.
+        kept = {}
+        for many in range(9):
+            for times in range(3 * many + 1):
+                inputs = [1] * times + [2] * (3 * many - times)
+                devices = tuple(("or", 0, tuple(inputs[3 * at:3 * at + 3])) for at in range(many))
+                for net, color in self.check_colors(devices).items():
+                    counts = (plain.driven(devices, net), plain.input_times(devices, net))
+                    self.assertEqual(kept.setdefault(color, counts), counts, devices)
 
     def test_stay(self):
         source = Random(126)
